@@ -1,0 +1,1 @@
+"""Castforms: integer expressions in all data models of a language."""
