@@ -1,8 +1,8 @@
 """Variables, expressions and conditions: their form, nodes and types, and which models admit them.
 
-The functions of the interface, at the end, check their arguments. `parts`,
-`all_nodes`, `literal_kind`, `kind_of` and `refusal` do not: they are for
-callers that have checked before.
+The functions of the interface, at the end, check their arguments. Those
+between the checks and them do not: they are for callers that have checked
+before. Rows are the nodes of an expression as `rows_of` lists them.
 """
 
 from castforms.errors import InvalidExpression, InvalidVariables, NotAdmitted
@@ -106,25 +106,58 @@ def all_nodes(expression, path=()):
     return found
 
 
+def literal_start(suffix):
+    """The least rank that a literal with a suffix can have."""
+    if "w" in suffix:
+        return RANKS["wide"]
+    if "l" in suffix:
+        return RANKS["long"]
+    return INT_RANK
+
+
 def literal_kind(model, number, suffix):
     """The type of a literal, None if no type holds it."""
-    rank = INT_RANK
-    if "l" in suffix:
-        rank = RANKS["long"]
-    if "w" in suffix:
-        rank = RANKS["wide"]
     kinds = UNSIGNED if "u" in suffix else SIGNED
-    for kind in kinds[rank:]:
+    for kind in kinds[literal_start(suffix):]:
         if is_held(model, kind, number):
             return kind
     return None
 
 
-def kind_of(model, named, node):
-    """The type of a node, None for a condition; `named` is a dict from the names to the types."""
+def rows_of(expression):
+    """The list of tuples (path, node, places), each node behind its parts: places are theirs in this list."""
+    rows = []
+    _add_rows(rows, (), expression)
+    return rows
+
+
+def _add_rows(rows, path, node):
+    """Adds the rows of a node and of all nodes within; returns the place of its own."""
+    places = []
+    for at, part in enumerate(parts(node)):
+        places.append(_add_rows(rows, path + (at,), part))
+    rows.append((path, node, places))
+    return len(rows) - 1
+
+
+def kinds_by_name(variables):
+    """A dict from the names of variables to their types."""
+    return {row[0]: row[1] for row in variables}
+
+
+def kinds_of(model, named, rows):
+    """The list of the types in which the nodes of rows compute; `named` is a dict from names to types.
+
+    That of `less` and `most` is the one in which they compare; `not`, `and` and `or` have None.
+    """
+    kinds = []
+    for _, node, places in rows:
+        kinds.append(_own_kind(model, named, node, [kinds[at] for at in places]))
+    return kinds
+
+
+def _own_kind(model, named, node, of_parts):
     word = node[0]
-    if word in CONDITIONS:
-        return None
     if word == "var":
         return named[node[1]]
     if word == "lit":
@@ -132,9 +165,11 @@ def kind_of(model, named, node):
     if word == "cast":
         return node[1]
     if word in ("neg", "shl", "shr"):
-        return promoted_kind(model, kind_of(model, named, node[1]))
+        return promoted_kind(model, of_parts[0])
+    if word in ("not", "and", "or"):
+        return None
     # The two expressions stand last, also in an `if`.
-    return common_kind(model, kind_of(model, named, node[-2]), kind_of(model, named, node[-1]))
+    return common_kind(model, of_parts[-2], of_parts[-1])
 
 
 def refusal(model, variables, expression):
@@ -176,5 +211,6 @@ def type_of(model, variables, expression):
     check_variables(variables)
     check_expression(variables, expression)
     check_admission(model, variables, expression)
-    named = {row[0]: row[1] for row in variables}
-    return kind_of(model, named, expression)
+    if expression[0] in CONDITIONS:
+        return None
+    return kinds_of(model, kinds_by_name(variables), rows_of(expression))[-1]

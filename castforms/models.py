@@ -19,6 +19,8 @@ INT_RANK = 2
 PLAIN_SIGNS = ("s", "u")
 LEAST_WIDTH = 2
 GREATEST_WIDTH = 128
+# More bits than any type has: what needs so many is never held.
+UNHELD = 129
 
 
 def check_widths(widths):
@@ -66,6 +68,13 @@ def limits_of(model, kind):
 def is_held(model, kind, number):
     least, greatest = limits_of(model, kind)
     return least <= number <= greatest
+
+
+def bits_for(low, high):
+    """The bits with which a signed type and an unsigned one hold the integers from low to high."""
+    # A negative integer takes as many bits as its complement.
+    signed = max([(end if end >= 0 else ~end).bit_length() for end in (low, high)]) + 1
+    return (signed, UNHELD if low < 0 else high.bit_length())
 
 
 def wrapped(model, kind, number):

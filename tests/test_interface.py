@@ -5,10 +5,13 @@ import inspect
 import sys
 import unittest
 
-from castforms import errors, expressions, models
-from castforms.errors import InvalidExpression, InvalidModel, InvalidVariables, NotAdmitted
+from castforms import clean, errors, expressions, models, ranges, runs
+from castforms.clean import first_unclean, is_clean
+from castforms.errors import InvalidExpression, InvalidModel, InvalidValues, InvalidVariables, NotAdmitted
 from castforms.expressions import admission, nodes, type_of
-from support import LP32, raised, untouched
+from castforms.ranges import bounds, outcomes
+from castforms.runs import mathematical, run, steps
+from support import CASES, CONDITIONS, LP32, raised, untouched
 
 FUNCTIONS = [
     (models, "width", ["model", "kind"]), (models, "limits", ["model", "kind"]),
@@ -17,6 +20,12 @@ FUNCTIONS = [
     (expressions, "nodes", ["variables", "expression"]),
     (expressions, "admission", ["model", "variables", "expression"]),
     (expressions, "type_of", ["model", "variables", "expression"]),
+    (runs, "run", ["model", "variables", "expression", "values"]),
+    (runs, "steps", ["model", "variables", "expression", "values"]),
+    (runs, "mathematical", ["variables", "expression", "values"]),
+    (ranges, "bounds", ["variables", "expression"]), (ranges, "outcomes", ["variables", "condition"]),
+    (clean, "is_clean", ["model", "variables", "expression"]),
+    (clean, "first_unclean", ["model", "variables", "expression"]),
 ]
 CLASSES = [
     "CastError", "InvalidModel", "InvalidType", "InvalidVariables", "InvalidExpression", "InvalidValues",
@@ -24,21 +33,21 @@ CLASSES = [
 ]
 X = ("var", "x")
 VARIABLES = [("x", "ushort", 0, 60000), ("y", "long", -9, 9)]
-# For each function that takes variables: calls that return and calls that raise.
-CASES = [
-    (LP32, VARIABLES, ("add", X, ("var", "y"))),
-    (LP32, VARIABLES, ("less", X, ("var", "y"))),
-    (((8, 16, 16, 32), "s"), VARIABLES, X),
-    (((8, 16, 16, 32, 64), "x"), VARIABLES, X),
-    (LP32, VARIABLES + [("x", "int", 0, 1)], X),
-    (LP32, VARIABLES, ("add", X, ("neg", X))),
-    (LP32, VARIABLES + [("z", "char", 0, 1000)], X),
-    (LP32, VARIABLES, ("add", X, ("lit", 10 ** 40, "uw"))),
-]
-
-
 def listed(model, variables, expression):
     return list(nodes(variables, expression))
+
+
+def bounded(model, variables, expression):
+    return (outcomes if expression[0] in CONDITIONS else bounds)(variables, expression)
+
+
+def ran(model, variables, expression, values):
+    """All that the files of runs say of a run."""
+    return [run(model, variables, expression, values), list(steps(model, variables, expression, values)),
+            mathematical(variables, expression, values)]
+
+
+CHECKED = [listed, admission, type_of, bounded, is_clean, first_unclean]
 
 
 class Interface(unittest.TestCase):
@@ -66,32 +75,63 @@ class Interface(unittest.TestCase):
         self.assertEqual(admission(LP32, expression=("lit", 10 ** 40, ""), variables=[]), ("literal", ()))
         self.assertEqual(type_of(expression=tree, model=LP32, variables=VARIABLES), "long")
 
+    def test_runs_by_name(self):
+        tree, values = ("add", X, ("var", "y")), {"x": 7, "y": -9}
+        arguments = {"values": values, "expression": tree, "variables": VARIABLES}
+        self.assertEqual(run(model=LP32, **arguments), ("value", -2))
+        self.assertEqual(list(steps(model=LP32, **arguments)),
+                         [((), "first", 7), ((), "second", -9), ((), "result", -2)])
+        self.assertEqual(mathematical(**arguments), -2)
+        self.assertEqual(run(LP32, VARIABLES, values=values, expression=X), ("value", 7))
+        for function in (run, mathematical, lambda **named: list(steps(**named))):
+            model = {} if function == mathematical else {"model": LP32}
+            self.assertEqual(raised(function, values={}, expression=X, variables=VARIABLES, **model),
+                             (InvalidValues, "x"))
+
+    def test_ranges_and_clean_by_name(self):
+        tree = ("add", X, ("var", "y"))
+        self.assertEqual(bounds(expression=tree, variables=VARIABLES), (-9, 60009))
+        self.assertEqual(outcomes(condition=("less",) + tree[1:], variables=VARIABLES), (True, True))
+        self.assertIs(is_clean(expression=tree, variables=VARIABLES, model=LP32), True)
+        self.assertIsNone(first_unclean(expression=tree, variables=VARIABLES, model=LP32))
+        self.assertEqual(first_unclean(expression=("shl", X, 15), model=LP32, variables=VARIABLES)[:2], ((), "result"))
+
     def test_errors_by_name(self):
         wrong = [("x", "int", 1, 0)]
-        for function in (admission, type_of):
+        for function in (admission, type_of, is_clean, first_unclean):
             self.assertEqual(raised(function, expression=X, variables=[], model=((), "s")), (InvalidModel, None))
             self.assertEqual(raised(function, expression=X, variables=wrong, model=LP32), (InvalidVariables, 0))
             self.assertEqual(raised(function, expression=X, variables=[], model=LP32), (InvalidExpression, ()))
-        self.assertEqual(raised(type_of, expression=X, variables=[("x", "uint", -1, 1)], model=LP32),
-                         (NotAdmitted, ("variable", "x")))
+        for function in (type_of, is_clean, first_unclean):
+            self.assertEqual(raised(function, expression=X, variables=[("x", "uint", -1, 1)], model=LP32),
+                             (NotAdmitted, ("variable", "x")))
         self.assertEqual(raised(lambda: list(nodes(expression=X, variables=wrong))), (InvalidVariables, 0))
 
 
 class Arguments(unittest.TestCase):
     def test_not_modified(self):
-        for function in (listed, admission, type_of):
+        for function in CHECKED:
             for case in CASES:
                 with self.subTest(function=function.__name__, case=case):
                     self.assertTrue(untouched(function, *case))
 
     def test_not_kept(self):
-        for function in (listed, admission, type_of):
+        for function in CHECKED:
             for case in CASES:
                 with self.subTest(function=function.__name__, case=case):
                     variables = list(case[1])
                     before = sys.getrefcount(variables)
                     raised(function, case[0], variables, case[2])
                     self.assertEqual(sys.getrefcount(variables), before)
+
+    def test_runs_leave_their_arguments(self):
+        for case in CASES:
+            for values in ({}, {"x": 1, "y": 2}, {"z": 1, "x": 1}, {"x": 60000, "y": 9, "none": 3}):
+                with self.subTest(case=case, values=values):
+                    self.assertTrue(untouched(ran, *case, values))
+                    before = sys.getrefcount(values)
+                    raised(ran, *case, values)
+                    self.assertEqual(sys.getrefcount(values), before)
 
     def test_changes_behind_a_call_do_not_matter(self):
         variables = copy.copy(VARIABLES)
@@ -108,6 +148,24 @@ class Arguments(unittest.TestCase):
         variables.clear()
         found.extend(walk)
         self.assertEqual([path for path, _ in found], [(), (0,), (1,)])
+
+
+class Results(unittest.TestCase):
+    """Results are new with each call."""
+
+    def test_values_of_first_unclean(self):
+        arguments = (LP32, VARIABLES, ("shl", X, 15))
+        first, second = first_unclean(*arguments), first_unclean(*arguments)
+        self.assertEqual(first, second)
+        self.assertIsNot(first[2], second[2])
+        first[2].clear()
+        self.assertEqual(first_unclean(*arguments), second)
+
+    def test_values_are_not_those_of_the_caller(self):
+        values = {"x": 1, "y": 2}
+        self.assertEqual(ran(LP32, VARIABLES, X, values), [("value", 1), [], 1])
+        values["x"] = 2
+        self.assertEqual(ran(LP32, VARIABLES, X, values), [("value", 2), [], 2])
 
 
 class Bounds(unittest.TestCase):
