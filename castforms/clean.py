@@ -21,8 +21,9 @@ class Demands:
     """What an expression demands of a model in which it is clean, whatever the model [10].
 
     A demand is a tuple (at, word, source): the step with a word of the node at a place in the rows, and the place
-    of the node whose values this step keeps if it is clean. Demands are in the order of the steps. Up to the
-    first step that is not clean all values are the mathematical ones, so these alone decide which step it is.
+    of the node whose values this step keeps if it is clean; `bits` has what each demand takes. Demands are in the
+    order of the steps. Up to the first step that is not clean all values are the mathematical ones, so these alone
+    decide which step it is.
     """
 
     def __init__(self, variables, expression):

@@ -4,12 +4,17 @@ import random
 import unittest
 
 from castforms.clean import first_unclean, is_clean
+from castforms.comparing import clean_wherever, parting_model
+from castforms.counting import count_models, nth_clean_model
 from castforms.expressions import admission, nodes
+from castforms.groupings import count_groupings, count_portable_groupings, nth_grouping
+from castforms.portable import counter_model, is_portable, least_clean_model
 from castforms.ranges import bounds, outcomes
 from castforms.runs import mathematical, run, steps
-from support import CONDITIONS, exact_by_promise, is_step_clean, large_case
+from support import CONDITIONS, KINDS, exact_by_promise, is_step_clean, large_case, random_tree
 
 WIDE_KINDS = ("int", "long", "wide")
+LEAST, DEFAULT = (2, 2, 2, 2, 2), (8, 16, 16, 32, 64)
 WIDEST = [((128,) * 5, "s"), ((2, 3, 126, 127, 128), "u"), ((2, 2, 128, 128, 128), "s"), ((8, 16, 32, 64, 128), "u")]
 
 
@@ -67,6 +72,76 @@ class Large(unittest.TestCase):
         far = 10 ** 40
         self.assertEqual(bounds([("x", "int", -far, far)], tree), (-far * 2 ** 4600, far * 2 ** 4600))
         self.assertEqual(first_unclean(WIDEST[0], [("x", "int", 0, 1)], tree)[:2], ((0,) * 22, "result"))
+
+
+class AllModels(unittest.TestCase):
+    def cases(self, seed, many=24, literals=6):
+        rng = random.Random(seed)
+        for number in range(80):
+            reach, kinds = rng.choice([(10 ** 40, tuple(KINDS)), (10 ** 37, WIDE_KINDS), (10 ** 6, tuple(KINDS))])
+            yield large_case(rng, "EEEC"[number % 4], many, literals, reach, kinds)
+
+    def most_classes(self):
+        """An expression whose literals part the models into as many classes as six literals can."""
+        variables = [(name, "char" if name == "a" else "short", 0, 3) for name in "abcdefgh"]
+        tree = ("var", "a")
+        for name in "bcdef":
+            tree = ("add", tree, ("var", name))
+        for power in (10, 30, 50, 70, 90, 110):
+            tree = ("add", tree, ("lit", 2 ** power, ""))
+        return variables, tree
+
+    def test_portable(self):
+        for variables, tree in list(self.cases(23)) + [self.most_classes()]:
+            for minima in (LEAST, DEFAULT):
+                counter, clean = counter_model(variables, tree, minima), least_clean_model(variables, tree, minima)
+                self.assertIs(is_portable(variables, tree, minima), counter is None)
+                for model in (counter, clean):
+                    if model is not None:
+                        self.assertIsNone(admission(model, variables, tree))
+                        self.assertIs(is_clean(model, variables, tree), model == clean)
+
+    def test_counting(self):
+        for variables, tree in list(self.cases(24)) + [self.most_classes()]:
+            admitted, clean = count_models(variables, tree, 128)
+            self.assertEqual(admitted == clean, is_portable(variables, tree, LEAST))
+            self.assertEqual(clean == 0, least_clean_model(variables, tree, LEAST) is None)
+            if clean > 0:
+                self.assertEqual(nth_clean_model(variables, tree, 128, 0), least_clean_model(variables, tree, LEAST))
+                for number in (clean // 2, clean - 1):
+                    self.assertTrue(is_clean(nth_clean_model(variables, tree, 128, number), variables, tree))
+
+    def test_comparing(self):
+        rng = random.Random(25)
+        found = []
+        for variables, first in self.cases(26, 12, 3):
+            numbers = [row[3] for row in variables if row[3] >= 0] + [5]
+            second = random_tree(rng, [row[0] for row in variables], 12, "E", numbers, (0, 1, 7, 30))
+            for one, other in ((first, second), (second, first), (first, ("lit", 1, ""))):
+                for minima in (LEAST, DEFAULT):
+                    model = parting_model(variables, one, other, minima)
+                    self.assertIs(clean_wherever(variables, one, other, minima), model is None)
+                    found.append(model)
+                    if model is not None:
+                        self.assertTrue(is_clean(model, variables, other))
+                        self.assertFalse(is_clean(model, variables, one))
+        self.assertGreater(len([model for model in found if model is not None]), 5)
+
+    def test_ten_terms(self):
+        rng = random.Random(27)
+        for number in range(40):
+            reach = rng.choice([10 ** 40, 10 ** 18, 10 ** 4])
+            variables, _ = large_case(rng, reach=reach, kinds=WIDE_KINDS)
+            terms = [("var", row[0]) for row in variables[:4]]
+            terms += [("lit", rng.randrange(reach), rng.choice(["", "l", "u"])) for _ in range(6)]
+            rng.shuffle(terms)
+            for minima in (LEAST, DEFAULT):
+                self.assertIn(count_portable_groupings(variables, terms, minima), range(4863))
+            if admission(WIDEST[0], variables, ("var", "a")) is None and reach < 10 ** 37:
+                clean = count_groupings(WIDEST[0], variables, terms)
+                if clean > 0:
+                    last = nth_grouping(WIDEST[0], variables, terms, clean - 1)
+                    self.assertTrue(is_clean(WIDEST[0], variables, last))
 
 
 if __name__ == "__main__":

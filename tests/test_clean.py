@@ -44,8 +44,9 @@ class Clean(unittest.TestCase):
 
 class EveryWord(Clean):
     def test_each_step_in_small_models(self):
-        trees = [("add", X, Y), ("sub", X, Y), ("mul", X, Y), ("less", X, Y), ("most", X, Y), ("if", ("less", X, ONE), Y, Z),
-                 ("neg", X), ("shl", X, 0), ("shl", X, 2), ("shr", X, 1), ("shr", X, 3), ("cast", "uchar", X),
+        trees = [("add", X, Y), ("sub", X, Y), ("mul", X, Y), ("less", X, Y), ("most", X, Y),
+                 ("if", ("less", X, ONE), Y, Z), ("neg", X), ("shl", X, 0), ("shl", X, 2), ("shr", X, 1),
+                 ("shr", X, 3), ("cast", "uchar", X),
                  ("cast", "short", X), ("not", ("less", X, Y)), ("and", ("less", X, ONE), ("most", Y, ONE)),
                  ("or", ("less", X, ONE), ("most", Y, ONE))]
         found = set()

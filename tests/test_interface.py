@@ -4,11 +4,17 @@ import copy
 import inspect
 import sys
 import unittest
+from math import comb
 
-from castforms import clean, errors, expressions, models, ranges, runs
+from castforms import clean, comparing, counting, errors, expressions, groupings, models, portable, ranges, runs
 from castforms.clean import first_unclean, is_clean
-from castforms.errors import InvalidExpression, InvalidModel, InvalidValues, InvalidVariables, NotAdmitted
+from castforms.comparing import clean_wherever, parting_model
+from castforms.counting import count_models, nth_clean_model
+from castforms.errors import InvalidExpression, InvalidModel, InvalidNumber, InvalidValues, InvalidVariables
+from castforms.errors import NotAdmitted
 from castforms.expressions import admission, nodes, type_of
+from castforms.groupings import count_groupings, count_portable_groupings, nth_grouping
+from castforms.portable import counter_model, is_portable, least_clean_model
 from castforms.ranges import bounds, outcomes
 from castforms.runs import mathematical, run, steps
 from support import CASES, CONDITIONS, LP32, raised, untouched
@@ -26,7 +32,19 @@ FUNCTIONS = [
     (ranges, "bounds", ["variables", "expression"]), (ranges, "outcomes", ["variables", "condition"]),
     (clean, "is_clean", ["model", "variables", "expression"]),
     (clean, "first_unclean", ["model", "variables", "expression"]),
+    (portable, "is_portable", ["variables", "expression", "minima"]),
+    (portable, "counter_model", ["variables", "expression", "minima"]),
+    (portable, "least_clean_model", ["variables", "expression", "minima"]),
+    (counting, "count_models", ["variables", "expression", "most"]),
+    (counting, "nth_clean_model", ["variables", "expression", "most", "number"]),
+    (comparing, "clean_wherever", ["variables", "first", "second", "minima"]),
+    (comparing, "parting_model", ["variables", "first", "second", "minima"]),
+    (groupings, "count_groupings", ["model", "variables", "terms"]),
+    (groupings, "nth_grouping", ["model", "variables", "terms", "number"]),
+    (groupings, "count_portable_groupings", ["variables", "terms", "minima"]),
 ]
+# Where nothing is passed for a parameter.
+DEFAULTS = {"minima": (8, 16, 16, 32, 64)}
 CLASSES = [
     "CastError", "InvalidModel", "InvalidType", "InvalidVariables", "InvalidExpression", "InvalidValues",
     "InvalidNumber", "NotAdmitted", "NothingToUndo", "Unreadable",
@@ -47,7 +65,25 @@ def ran(model, variables, expression, values):
             mathematical(variables, expression, values)]
 
 
-CHECKED = [listed, admission, type_of, bounded, is_clean, first_unclean]
+def over_models(model, variables, expression):
+    """What is asked of all models at once; the widths of the model are the minima."""
+    return [is_portable(variables, expression, model[0]), counter_model(variables, expression, model[0]),
+            least_clean_model(variables, expression, model[0]),
+            parting_model(variables, expression, expression, model[0]),
+            clean_wherever(variables, ("lit", 1, ""), expression, model[0])]
+
+
+def counted(model, variables, expression):
+    return [count_models(variables, expression, 4), nth_clean_model(variables, expression, 4, 0)]
+
+
+def grouped(model, variables, expression):
+    terms = [("lit", 1, ""), expression]
+    return [count_groupings(model, variables, terms), count_portable_groupings(variables, terms, model[0]),
+            nth_grouping(model, variables, terms, 0)]
+
+
+CHECKED = [listed, admission, type_of, bounded, is_clean, first_unclean, over_models, counted, grouped]
 
 
 class Interface(unittest.TestCase):
@@ -61,7 +97,7 @@ class Interface(unittest.TestCase):
                 self.assertEqual(list(inspect.signature(function).parameters), parameters)
                 for parameter in inspect.signature(function).parameters.values():
                     self.assertEqual(parameter.kind, parameter.POSITIONAL_OR_KEYWORD)
-                    self.assertEqual(parameter.default, parameter.empty)
+                    self.assertEqual(parameter.default, DEFAULTS.get(parameter.name, parameter.empty))
 
     def test_classes_stand_in_their_file(self):
         for name in CLASSES:
@@ -96,6 +132,38 @@ class Interface(unittest.TestCase):
         self.assertIsNone(first_unclean(expression=tree, variables=VARIABLES, model=LP32))
         self.assertEqual(first_unclean(expression=("shl", X, 15), model=LP32, variables=VARIABLES)[:2], ((), "result"))
 
+    def test_models_by_name(self):
+        arguments = {"expression": ("add", X, ("lit", 1, "")), "variables": [("x", "int", 0, 32767)]}
+        least = (8, 16, 17, 32, 64)
+        self.assertEqual(counter_model(**arguments), (DEFAULTS["minima"], "s"))
+        self.assertEqual(counter_model(minima=(8, 16, 16, 32, 65), **arguments), ((8, 16, 16, 32, 65), "s"))
+        self.assertIsNone(counter_model(minima=least, **arguments))
+        self.assertEqual(least_clean_model(**arguments), (least, "s"))
+        self.assertEqual(least_clean_model(minima=(9, 9, 9, 9, 9), **arguments), ((9, 9, 17, 17, 17), "s"))
+        self.assertIs(is_portable(**arguments), False)
+        self.assertIs(is_portable(minima=least, **arguments), True)
+        # `int` has 16 bits, or 17 as `long` and `wide` have then; no lesser rank has more.
+        self.assertEqual(count_models(most=17, **arguments), (2 * (3 * comb(16, 2) + comb(17, 2)), 2 * comb(17, 2)))
+        self.assertEqual(nth_clean_model(number=1, most=17, **arguments), ((2, 2, 17, 17, 17), "u"))
+        self.assertEqual(raised(nth_clean_model, number=0, most=16, **arguments), (InvalidNumber, 0))
+
+    def test_two_expressions_by_name(self):
+        arguments = {"second": X, "first": ("add", X, ("lit", 1, "")), "variables": [("x", "int", 0, 32767)]}
+        self.assertEqual(parting_model(**arguments), (DEFAULTS["minima"], "s"))
+        self.assertIsNone(parting_model(minima=(8, 16, 17, 32, 64), **arguments))
+        self.assertIs(clean_wherever(**arguments), False)
+        self.assertIs(clean_wherever(minima=(8, 16, 17, 32, 64), **arguments), True)
+
+    def test_groupings_by_name(self):
+        arguments = {"terms": [X, ("lit", 1, "")], "variables": [("x", "int", 0, 32767)]}
+        wider = ((8, 16, 17, 32, 64), "s")
+        self.assertEqual(count_groupings(model=LP32, **arguments), 0)
+        self.assertEqual(count_groupings(model=wider, **arguments), 1)
+        self.assertEqual(nth_grouping(number=0, model=wider, **arguments), ("add", X, ("lit", 1, "")))
+        self.assertEqual(raised(nth_grouping, number=0, model=LP32, **arguments), (InvalidNumber, 0))
+        self.assertEqual(count_portable_groupings(**arguments), 0)
+        self.assertEqual(count_portable_groupings(minima=wider[0], **arguments), 1)
+
     def test_errors_by_name(self):
         wrong = [("x", "int", 1, 0)]
         for function in (admission, type_of, is_clean, first_unclean):
@@ -123,6 +191,18 @@ class Arguments(unittest.TestCase):
                     before = sys.getrefcount(variables)
                     raised(function, case[0], variables, case[2])
                     self.assertEqual(sys.getrefcount(variables), before)
+
+    def test_terms_are_not_modified_or_kept(self):
+        for model, variables, expression in CASES:
+            one, wrong = ("lit", 1, "u"), ("lit", -1, "")
+            for terms in ([expression], [one, expression, one], [wrong, expression], []):
+                for function in (count_groupings, lambda *rest: nth_grouping(*rest, 0),
+                                 lambda model, variables, terms: count_portable_groupings(variables, terms, model[0])):
+                    with self.subTest(variables=variables, terms=terms):
+                        self.assertTrue(untouched(function, model, variables, terms))
+                        before = sys.getrefcount(terms)
+                        raised(function, model, variables, terms)
+                        self.assertEqual(sys.getrefcount(terms), before)
 
     def test_runs_leave_their_arguments(self):
         for case in CASES:

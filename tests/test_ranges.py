@@ -61,7 +61,8 @@ class Mathematical(unittest.TestCase):
                 self.check(("if", less, Y, ("neg", ("lit", 3, "u"))), values, y if one else -3)
 
     def test_deep(self):
-        tree = ("sub", ("cast", "uint", ("neg", X)), ("if", ("less", Y, ("lit", 0, "u")), ("lit", 1, ""), ("lit", 2, "")))
+        chosen = ("if", ("less", Y, ("lit", 0, "u")), ("lit", 1, ""), ("lit", 2, ""))
+        tree = ("sub", ("cast", "uint", ("neg", X)), chosen)
         self.check(tree, {"x": 7, "y": -1}, -8)
         self.check(tree, {"x": 7, "y": 0}, -9)
 
@@ -97,8 +98,9 @@ class Bounds(unittest.TestCase):
         ranges = [(-3, 2), (0, 4), (-4, -2), (3, 3), (-1, -1), (0, 0), (2, 6)]
         for first in ranges:
             variables = [("x", "int") + first]
-            for tree in (X, ("neg", X), ("cast", "uchar", X), ("shl", X, 0), ("shl", X, 3), ("shr", X, 0), ("shr", X, 1),
-                         ("shr", X, 2), ("shr", X, 200), ("add", X, ("lit", 2, "u")), ("sub", ("lit", 2, ""), X)):
+            for tree in (X, ("neg", X), ("cast", "uchar", X), ("shl", X, 0), ("shl", X, 3), ("shr", X, 0),
+                         ("shr", X, 1), ("shr", X, 2), ("shr", X, 200), ("add", X, ("lit", 2, "u")),
+                         ("sub", ("lit", 2, ""), X)):
                 self.check(variables, tree)
             for second in ranges:
                 variables = [("x", "int") + first, ("y", "uint") + second]
@@ -181,7 +183,8 @@ class Examples(unittest.TestCase):
         self.assertEqual(
             [bounds(variables, ('mul', ('var', 'x'), ('var', 'y'))),
              outcomes(variables, ('less', ('var', 'z'), ('var', 'y'))),
-             bounds(variables, ('if', ('less', ('var', 'z'), ('var', 'y')), ('shr', ('var', 'x'), 1), ('lit', 99, '')))],
+             bounds(variables, ('if', ('less', ('var', 'z'), ('var', 'y')), ('shr', ('var', 'x'), 1),
+                                ('lit', 99, '')))],
             [(-45, 45), (True, False), (-3, 2)])
 
 
