@@ -31,8 +31,9 @@ class Demands:
         self.named = kinds_by_name(variables)
         self.rows = rows_of(expression)
         self.spans = spans_of(variables, self.rows)
+        self.reached = self.places_that_run()
         self.demands = []
-        for at, runs in enumerate(self.places_that_run()):
+        for at, runs in enumerate(self.reached):
             if runs:
                 self.demands.extend(self.demands_at(at))
         self.bits = [self.bits_of_step(demand, self.spans[demand[2]]) for demand in self.demands]
@@ -76,6 +77,11 @@ class Demands:
             return (UNHELD, UNHELD)
         return (max(signed, node[2] + 1), max(unsigned, node[2] + 1))
 
+    def bits_at(self, at):
+        """The bits, of a signed and of an unsigned type, with which all steps of a node itself are clean."""
+        found = [bits for demand, bits in zip(self.demands, self.bits) if demand[0] == at]
+        return (max([signed for signed, _ in found], default=0), max([unsigned for _, unsigned in found], default=0))
+
     def kinds_in(self, model):
         return kinds_of(model, self.named, self.rows)
 
@@ -97,7 +103,7 @@ class Demands:
         kinds = self.kinds_in(model)
         for demand, needed in zip(self.demands, self.bits):
             kind = kinds[demand[0]]
-            if bits_of(model, kind) < bits_needed(model, kind, needed):
+            if not is_wide_enough(model, kind, needed):
                 return demand
         return None
 
@@ -108,8 +114,8 @@ class Demands:
         kind = self.kinds_in(model)[at]
         found = {name: self.lowest[name] for name in self.lowest}
         self.lead_to(source, found)
-        needed = bits_needed(model, kind, self.bits_of_step(demand, (low, low)))
-        self.aim(source, low if bits_of(model, kind) < needed else high, found)
+        needed = self.bits_of_step(demand, (low, low))
+        self.aim(source, high if is_wide_enough(model, kind, needed) else low, found)
         return found
 
     def lead_to(self, source, found):
@@ -138,6 +144,11 @@ class Demands:
 def bits_needed(model, kind, needed):
     """Those that are needed of a type, by the bits (signed, unsigned) that are needed of one with either sign."""
     return needed[1] if is_unsigned(model, kind) else needed[0]
+
+
+def is_wide_enough(model, kind, needed):
+    """Whether a type has the bits that are needed of one with its sign."""
+    return bits_of(model, kind) >= bits_needed(model, kind, needed)
 
 
 def _checked_demands(model, variables, expression):

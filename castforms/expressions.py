@@ -146,17 +146,18 @@ def kinds_by_name(variables):
 
 
 def kinds_of(model, named, rows):
-    """The list of the types in which the nodes of rows compute; `named` is a dict from names to types.
-
-    That of `less` and `most` is the one in which they compare; `not`, `and` and `or` have None.
-    """
+    """The list of the types in which the nodes of rows compute; `named` is a dict from names to types."""
     kinds = []
     for _, node, places in rows:
-        kinds.append(_own_kind(model, named, node, [kinds[at] for at in places]))
+        kinds.append(own_kind(model, named, node, [kinds[at] for at in places]))
     return kinds
 
 
-def _own_kind(model, named, node, of_parts):
+def own_kind(model, named, node, of_parts):
+    """The type in which a node computes, from those of its parts.
+
+    That of `less` and `most` is the one in which they compare; `not`, `and` and `or` have None.
+    """
     word = node[0]
     if word == "var":
         return named[node[1]]

@@ -3,14 +3,18 @@
 import random
 import unittest
 
+from castforms.casting import count_ways, fewest_casts, with_casts
 from castforms.clean import first_unclean, is_clean
 from castforms.comparing import clean_wherever, parting_model
 from castforms.counting import count_models, nth_clean_model
 from castforms.expressions import admission, nodes
 from castforms.groupings import count_groupings, count_portable_groupings, nth_grouping
+from castforms.mixed import count_wrong, first_wrong
+from castforms.models import limits
 from castforms.portable import counter_model, is_portable, least_clean_model
 from castforms.ranges import bounds, outcomes
 from castforms.runs import mathematical, run, steps
+from castforms.sums import count_beyond
 from support import CONDITIONS, KINDS, exact_by_promise, is_step_clean, large_case, random_tree
 
 WIDE_KINDS = ("int", "long", "wide")
@@ -142,6 +146,88 @@ class AllModels(unittest.TestCase):
                 if clean > 0:
                     last = nth_grouping(WIDEST[0], variables, terms, clean - 1)
                     self.assertTrue(is_clean(WIDEST[0], variables, last))
+
+
+class LargeCasts(unittest.TestCase):
+    MODELS = WIDEST + [((16, 16, 16, 32, 128), "u"), ((8, 16, 16, 128, 128), "s"), ((16, 16, 64, 64, 128), "u"),
+                       ((2, 2, 2, 2, 128), "s")]
+
+    def test_drawn(self):
+        rng = random.Random(28)
+        found = []
+        while len(found) < 150:
+            models = [rng.choice(self.MODELS) for _ in range(4)]
+            variables, tree = large_case(rng, reach=rng.choice([10 ** 37, 10 ** 18, 10 ** 4]))
+            # Some ranges are made small, so that more models admit the variables.
+            variables = [row if rng.random() < 0.3 else row[:2] + (0, 1) for row in variables]
+            if any(admission(model, variables, tree) is not None for model in models):
+                continue
+            found.append(fewest_casts(models, variables, tree))
+            self.check(models, variables, tree, found[-1])
+        for wanted in (0, 1, 2, None):
+            self.assertIn(wanted, found)
+
+    def check(self, models, variables, tree, fewest):
+        ways, chosen = count_ways(models, variables, tree), with_casts(models, variables, tree)
+        self.assertEqual(fewest == 0, all(is_clean(model, variables, tree) for model in models))
+        self.assertEqual((fewest is None, fewest is None), (ways == 0, chosen is None))
+        if fewest == 0:
+            self.assertEqual((ways, chosen), (1, tree))
+        if chosen is not None:
+            self.assertEqual(len(list(nodes(variables, chosen))), 24 + fewest)
+            for model in models:
+                self.assertTrue(is_clean(model, variables, chosen))
+
+    def test_many_different_types(self):
+        """Literals whose types differ from model to model, between variables of all types."""
+        models = [((8, 16, 16, 64, 128), "s"), ((16, 16, 32, 32, 128), "u"), ((16, 16, 16, 16, 128), "u"),
+                  ((8, 8, 16, 128, 128), "s")]
+        variables = [("a", "char", 0, 9), ("b", "uchar", 0, 9), ("c", "ushort", 0, 9), ("d", "uint", 0, 9),
+                     ("e", "long", -9, 9), ("f", "ulong", 0, 9)]
+        leaves = [("var", row[0]) for row in variables]
+        leaves += [("lit", 2 ** 15, ""), ("lit", 2 ** 16, "u"), ("lit", 2 ** 31, "l"), ("lit", 2 ** 32, "ul"),
+                   ("lit", 2 ** 63, ""), ("lit", 1, "uw")]
+        rng = random.Random(29)
+        for word in ("add", "sub", "mul"):
+            for _ in range(20):
+                rng.shuffle(leaves)
+                tree = leaves[0]
+                for leaf in leaves[1:]:
+                    tree = (word, tree, leaf) if rng.random() < 0.5 else (word, leaf, tree)
+                tree = ("neg", tree)
+                self.assertEqual(len(list(nodes(variables, tree))), 24)
+                self.check(models, variables, tree, fewest_casts(models, variables, tree))
+
+    def test_deepest(self):
+        tree = ("lit", 1, "u")
+        for _ in range(23):
+            tree = ("neg", tree)
+        self.assertEqual(fewest_casts(WIDEST[:1], [], tree), 1)
+        for models in (WIDEST, WIDEST[:1], WIDEST[1:] * 2):
+            self.check(models[:4], [], tree, fewest_casts(models[:4], [], tree))
+
+
+class LargeNumbers(unittest.TestCase):
+    def test_mixed(self):
+        for model in WIDEST:
+            for first in KINDS:
+                for second in KINDS:
+                    pairs = 1
+                    for kind in (first, second):
+                        pairs *= limits(model, kind)[1] - limits(model, kind)[0] + 1
+                    wrong = count_wrong(model, first, second)
+                    self.assertTrue(0 <= wrong < pairs)
+                    self.assertIs(first_wrong(model, first, second) is None, wrong == 0)
+
+    def test_sums(self):
+        rng = random.Random(30)
+        for _ in range(500):
+            ranges = [tuple(sorted(rng.randrange(-10 ** 40, 10 ** 40 + 1) for _ in "lh")) for _ in range(8)]
+            ways = 1
+            for low, high in ranges:
+                ways *= high - low + 1
+            beyond = [count_beyond(WIDEST[1], kind, ranges) for kind in ("int", "long", "wide")]
+            self.assertTrue(0 <= beyond[2] <= beyond[1] <= beyond[0] <= ways)
 
 
 if __name__ == "__main__":

@@ -6,17 +6,21 @@ import sys
 import unittest
 from math import comb
 
-from castforms import clean, comparing, counting, errors, expressions, groupings, models, portable, ranges, runs
+from castforms import casting, clean, comparing, counting, errors, expressions, groupings, mixed, models, portable
+from castforms import ranges, runs, sums
+from castforms.casting import count_ways, fewest_casts, with_casts
 from castforms.clean import first_unclean, is_clean
 from castforms.comparing import clean_wherever, parting_model
 from castforms.counting import count_models, nth_clean_model
-from castforms.errors import InvalidExpression, InvalidModel, InvalidNumber, InvalidValues, InvalidVariables
-from castforms.errors import NotAdmitted
+from castforms.errors import InvalidExpression, InvalidModel, InvalidNumber, InvalidType, InvalidValues
+from castforms.errors import InvalidVariables, NotAdmitted
 from castforms.expressions import admission, nodes, type_of
 from castforms.groupings import count_groupings, count_portable_groupings, nth_grouping
+from castforms.mixed import count_wrong, first_wrong
 from castforms.portable import counter_model, is_portable, least_clean_model
 from castforms.ranges import bounds, outcomes
 from castforms.runs import mathematical, run, steps
+from castforms.sums import count_beyond
 from support import CASES, CONDITIONS, LP32, raised, untouched
 
 FUNCTIONS = [
@@ -42,6 +46,11 @@ FUNCTIONS = [
     (groupings, "count_groupings", ["model", "variables", "terms"]),
     (groupings, "nth_grouping", ["model", "variables", "terms", "number"]),
     (groupings, "count_portable_groupings", ["variables", "terms", "minima"]),
+    (casting, "fewest_casts", ["models", "variables", "expression"]),
+    (casting, "count_ways", ["models", "variables", "expression"]),
+    (casting, "with_casts", ["models", "variables", "expression"]),
+    (mixed, "count_wrong", ["model", "first", "second"]), (mixed, "first_wrong", ["model", "first", "second"]),
+    (sums, "count_beyond", ["model", "kind", "ranges"]),
 ]
 # Where nothing is passed for a parameter.
 DEFAULTS = {"minima": (8, 16, 16, 32, 64)}
@@ -51,6 +60,8 @@ CLASSES = [
 ]
 X = ("var", "x")
 VARIABLES = [("x", "ushort", 0, 60000), ("y", "long", -9, 9)]
+
+
 def listed(model, variables, expression):
     return list(nodes(variables, expression))
 
@@ -83,7 +94,14 @@ def grouped(model, variables, expression):
             nth_grouping(model, variables, terms, 0)]
 
 
-CHECKED = [listed, admission, type_of, bounded, is_clean, first_unclean, over_models, counted, grouped]
+def cast(model, variables, expression):
+    models = [model, model]
+    whole = ("if", expression, ("lit", 1, ""), ("lit", 2, "")) if expression[0] in CONDITIONS else expression
+    return [fewest_casts(models, variables, whole), count_ways(models, variables, whole),
+            with_casts(models, variables, whole)]
+
+
+CHECKED = [listed, admission, type_of, bounded, is_clean, first_unclean, over_models, counted, grouped, cast]
 
 
 class Interface(unittest.TestCase):
@@ -164,6 +182,24 @@ class Interface(unittest.TestCase):
         self.assertEqual(count_portable_groupings(**arguments), 0)
         self.assertEqual(count_portable_groupings(minima=wider[0], **arguments), 1)
 
+    def test_casts_by_name(self):
+        arguments = {"expression": ("add", X, ("lit", 1, "")), "variables": [("x", "int", 0, 32767)]}
+        models = [((8, 16, 17, 32, 64), "s"), LP32]
+        self.assertEqual(fewest_casts(models=models, **arguments), 1)
+        self.assertEqual(fewest_casts(models=models[:1], **arguments), 0)
+        # Either part to any type with more bits, or to `uint`, or one that becomes it.
+        self.assertEqual(count_ways(models=[LP32], **arguments), 12)
+        self.assertEqual(with_casts(models=models[:1], **arguments), arguments["expression"])
+        self.assertEqual(raised(with_casts, models=[], **arguments), (InvalidNumber, 0))
+
+    def test_mixed_and_sums_by_name(self):
+        model = ((2, 2, 2, 3, 3), "s")
+        self.assertEqual(count_wrong(second="uint", first="int", model=model), 7)
+        self.assertEqual(first_wrong(second="int", first="uint", model=model), (0, -2))
+        self.assertEqual(raised(count_wrong, second="byte", first="int", model=model), (InvalidType, "byte"))
+        self.assertEqual(count_beyond(ranges=[(-1, 1)], kind="uchar", model=model), 1)
+        self.assertEqual(raised(count_beyond, ranges=[(1, 0)], kind="int", model=model), (InvalidNumber, 0))
+
     def test_errors_by_name(self):
         wrong = [("x", "int", 1, 0)]
         for function in (admission, type_of, is_clean, first_unclean):
@@ -203,6 +239,23 @@ class Arguments(unittest.TestCase):
                         before = sys.getrefcount(terms)
                         raised(function, model, variables, terms)
                         self.assertEqual(sys.getrefcount(terms), before)
+
+    def test_models_and_ranges_are_not_modified_or_kept(self):
+        calls = []
+        for model, variables, expression in CASES:
+            for models in ([], [model], [LP32, model, LP32], [model, LP32]):
+                for function in (fewest_casts, count_ways, with_casts):
+                    calls.append((function, models, variables, expression))
+        for model in (LP32, ((8, 16, 16, 32), "s")):
+            for given in ([], [(0, 1)] * 8, [(0, 1), (1, 0)], [(-10 ** 40, 10 ** 40)]):
+                calls.extend([(count_beyond, model, "int", given), (count_beyond, model, "byte", given)])
+        for call in calls:
+            with self.subTest(call=call):
+                self.assertTrue(untouched(*call))
+                for argument in call[1:]:
+                    before = sys.getrefcount(argument)
+                    raised(*call)
+                    self.assertEqual(sys.getrefcount(argument), before)
 
     def test_runs_leave_their_arguments(self):
         for case in CASES:
