@@ -4,18 +4,24 @@ import random
 import unittest
 
 from castforms.casting import count_ways, fewest_casts, with_casts
+from castforms.choosing import cheapest_types
 from castforms.clean import first_unclean, is_clean
 from castforms.comparing import clean_wherever, parting_model
 from castforms.counting import count_models, nth_clean_model
+from castforms.errors import NothingToUndo, Unreadable
 from castforms.expressions import admission, nodes
 from castforms.groupings import count_groupings, count_portable_groupings, nth_grouping
 from castforms.mixed import count_wrong, first_wrong
 from castforms.models import limits
 from castforms.portable import counter_model, is_portable, least_clean_model
+from castforms.projects import Project
 from castforms.ranges import bounds, outcomes
+from castforms.readings import read_expression, read_variables
 from castforms.runs import mathematical, run, steps
 from castforms.sums import count_beyond
-from support import CONDITIONS, KINDS, exact_by_promise, is_step_clean, large_case, random_tree
+from castforms.texts import show_expression, show_variables
+from support import CONDITIONS, KINDS, exact_by_promise, is_step_clean, large_case, literals_have_types, raised
+from support import random_tree
 
 WIDE_KINDS = ("int", "long", "wide")
 LEAST, DEFAULT = (2, 2, 2, 2, 2), (8, 16, 16, 32, 64)
@@ -228,6 +234,89 @@ class LargeNumbers(unittest.TestCase):
                 ways *= high - low + 1
             beyond = [count_beyond(WIDEST[1], kind, ranges) for kind in ("int", "long", "wide")]
             self.assertTrue(0 <= beyond[2] <= beyond[1] <= beyond[0] <= ways)
+
+
+class LargeTypes(unittest.TestCase):
+    def test_cheapest_types(self):
+        rng = random.Random(31)
+        found = []
+        for number in range(300):
+            variables, tree = large_case(rng, "EEEC"[number % 4], reach=rng.choice([10 ** 37, 10 ** 18, 10 ** 4]))
+            for model in WIDEST:
+                if literals_have_types(model, tree):
+                    found.append(cheapest_types(model, variables, tree))
+                    if found[-1] is not None:
+                        typed = [(row[0], kind, row[2], row[3]) for row, kind in zip(variables, found[-1])]
+                        self.assertTrue(is_clean(model, typed, tree))
+        self.assertIn(None, found)
+        self.assertGreater(len([kinds for kinds in found if kinds is not None]), 50)
+
+    def test_ranges_that_no_type_holds(self):
+        rng = random.Random(32)
+        for _ in range(50):
+            variables, tree = large_case(rng)
+            variables[rng.randrange(8)] = ("z", "char", -10 ** 40, 10 ** 40)
+            names = [row[0] for row in variables]
+            tree = random_tree(rng, names, 24, "E", (0, 1, 2), (0, 1, 200))
+            self.assertIsNone(cheapest_types(WIDEST[0], variables, tree))
+
+
+class LargeTexts(unittest.TestCase):
+    def test_expressions_and_variables(self):
+        rng = random.Random(33)
+        for number in range(300):
+            variables, tree = large_case(rng, "EEEC"[number % 4])
+            self.assertEqual(read_expression(show_expression(tree)), tree)
+            self.assertEqual(read_variables(show_variables(variables)), variables)
+
+    def test_texts_of_2000_characters(self):
+        rng = random.Random(34)
+        signs = "()  xy50ulneg+-*<>?:andcastint"
+        readable = 0
+        for _ in range(200):
+            text = "(" * 99 + "x" + "u" * 1900
+            self.assertEqual(raised(read_expression, text), (Unreadable, text))
+            text = "".join(rng.choice(signs) for _ in range(2000))
+            self.assertEqual(raised(read_expression, text), (Unreadable, text))
+            self.assertEqual(raised(read_variables, text), (Unreadable, text))
+            tree = random_tree(rng, list("abcdefgh") * 40, 380, numbers=(5,))
+            text = show_expression(tree)
+            if len(text) <= 2000:
+                readable += 1
+                self.assertEqual(read_expression(text), tree)
+        self.assertGreater(readable, 20)
+
+
+class LargeProjects(unittest.TestCase):
+    def test_hundred_calls(self):
+        rng = random.Random(35)
+        variables, _ = large_case(rng, reach=10 ** 37, kinds=WIDE_KINDS)
+        project = Project(variables)
+        names, states = [row[0] for row in variables], [[]]
+        for call in range(90):
+            if call % 3 == 2:
+                project.remove(rng.randrange(len(project.expressions)))
+            else:
+                project.add(*[random_tree(rng, list(names), 24, "E", (0, 1, 10 ** 37)) for _ in range(2)])
+            states.append(project.expressions)
+        for model in WIDEST:
+            verdicts = list(project.verdicts(model))
+            self.assertEqual(len(verdicts), 90)
+        self.assertEqual(len(project.counter_models()), 90)
+        texts = [show_expression(tree) for tree in project.expressions]
+        self.assertEqual(Project.of_texts(show_variables(variables), texts), project)
+        while len(states) > 1:
+            states.pop()
+            project.undo()
+            self.assertEqual(project.expressions, states[-1])
+        self.assertEqual(raised(project.undo), (NothingToUndo, 0))
+
+    def test_many_expressions_at_once(self):
+        project = Project([("x", "int", 0, 9)])
+        for _ in range(50):
+            project.add(*[("neg", ("var", "x"))] * 20)
+        self.assertEqual(len(project.expressions), 1000)
+        self.assertEqual(list(project.verdicts(WIDEST[0])), [True] * 1000)
 
 
 if __name__ == "__main__":

@@ -6,21 +6,25 @@ import sys
 import unittest
 from math import comb
 
-from castforms import casting, clean, comparing, counting, errors, expressions, groupings, mixed, models, portable
-from castforms import ranges, runs, sums
+from castforms import casting, choosing, clean, comparing, counting, errors, expressions, groupings, mixed, models
+from castforms import portable, projects, ranges, readings, runs, sums, texts
 from castforms.casting import count_ways, fewest_casts, with_casts
+from castforms.choosing import cheapest_types
 from castforms.clean import first_unclean, is_clean
 from castforms.comparing import clean_wherever, parting_model
 from castforms.counting import count_models, nth_clean_model
 from castforms.errors import InvalidExpression, InvalidModel, InvalidNumber, InvalidType, InvalidValues
-from castforms.errors import InvalidVariables, NotAdmitted
+from castforms.errors import InvalidVariables, NotAdmitted, NothingToUndo, Unreadable
 from castforms.expressions import admission, nodes, type_of
 from castforms.groupings import count_groupings, count_portable_groupings, nth_grouping
 from castforms.mixed import count_wrong, first_wrong
 from castforms.portable import counter_model, is_portable, least_clean_model
+from castforms.projects import Project
 from castforms.ranges import bounds, outcomes
+from castforms.readings import read_expression, read_model, read_variables
 from castforms.runs import mathematical, run, steps
 from castforms.sums import count_beyond
+from castforms.texts import show_expression, show_model, show_variables
 from support import CASES, CONDITIONS, LP32, raised, untouched
 
 FUNCTIONS = [
@@ -51,6 +55,10 @@ FUNCTIONS = [
     (casting, "with_casts", ["models", "variables", "expression"]),
     (mixed, "count_wrong", ["model", "first", "second"]), (mixed, "first_wrong", ["model", "first", "second"]),
     (sums, "count_beyond", ["model", "kind", "ranges"]),
+    (choosing, "cheapest_types", ["model", "variables", "expression"]),
+    (texts, "show_expression", ["expression"]), (texts, "show_variables", ["variables"]),
+    (texts, "show_model", ["model"]), (readings, "read_expression", ["text"]),
+    (readings, "read_variables", ["text"]), (readings, "read_model", ["text"]),
 ]
 # Where nothing is passed for a parameter.
 DEFAULTS = {"minima": (8, 16, 16, 32, 64)}
@@ -101,7 +109,18 @@ def cast(model, variables, expression):
             with_casts(models, variables, whole)]
 
 
-CHECKED = [listed, admission, type_of, bounded, is_clean, first_unclean, over_models, counted, grouped, cast]
+def project_calls(model, variables, expression):
+    """What methods of a project answer, one behind the other."""
+    project = Project(variables)
+    project.add(("lit", 1, ""), expression)
+    answers = [project.expressions, list(project.verdicts(model)), project.counter_models(model[0])]
+    project.remove(0)
+    project.undo()
+    return answers + [project.expressions, project == Project(variables)]
+
+
+CHECKED = [listed, admission, type_of, bounded, is_clean, first_unclean, over_models, counted, grouped, cast,
+           cheapest_types, project_calls]
 
 
 class Interface(unittest.TestCase):
@@ -121,6 +140,12 @@ class Interface(unittest.TestCase):
         for name in CLASSES:
             self.assertEqual(getattr(errors, name).__module__, "castforms.errors")
             self.assertEqual("__init__" in vars(getattr(errors, name)), name != "CastError")
+
+    def test_project_stands_in_its_file(self):
+        self.assertEqual(Project.__module__, projects.__name__)
+        for name in ("__init__", "__eq__", "expressions", "add", "remove", "undo", "verdicts", "counter_models",
+                     "of_texts"):
+            self.assertIn(name, vars(Project))
 
     def test_by_name(self):
         tree = ("add", X, ("var", "y"))
@@ -199,6 +224,30 @@ class Interface(unittest.TestCase):
         self.assertEqual(raised(count_wrong, second="byte", first="int", model=model), (InvalidType, "byte"))
         self.assertEqual(count_beyond(ranges=[(-1, 1)], kind="uchar", model=model), 1)
         self.assertEqual(raised(count_beyond, ranges=[(1, 0)], kind="int", model=model), (InvalidNumber, 0))
+
+    def test_types_and_texts_by_name(self):
+        arguments = {"expression": ("sub", X, ("var", "y")), "variables": VARIABLES}
+        self.assertEqual(cheapest_types(model=LP32, **arguments), ["long", "char"])
+        self.assertEqual(raised(cheapest_types, model=LP32, variables=[], expression=("lit", 10 ** 40, "")),
+                         (NotAdmitted, ("literal", ())))
+        self.assertEqual(show_expression(expression=arguments["expression"]), "(x - y)")
+        self.assertEqual(show_variables(variables=VARIABLES), "x ushort 0 60000, y long -9 9")
+        self.assertEqual(show_model(model=LP32), "8 16 16 32 64 s")
+        self.assertEqual(read_expression(text="(x - y)"), arguments["expression"])
+        self.assertEqual(read_variables(text="x ushort 0 60000, y long -9 9"), VARIABLES)
+        self.assertEqual(read_model(text="8 16 16 32 64 s"), LP32)
+        for function in (read_expression, read_variables, read_model):
+            self.assertEqual(raised(function, text="x +"), (Unreadable, "x +"))
+
+    def test_projects_by_name(self):
+        project = Project(variables=VARIABLES)
+        project.add(X, ("neg", X))
+        self.assertEqual(list(project.verdicts(model=LP32)), [True, False])
+        self.assertEqual(project.counter_models(minima=LP32[0]), [None, LP32])
+        self.assertEqual(project.remove(index=1), ("neg", X))
+        self.assertEqual(raised(project.remove, index=1), (InvalidNumber, 1))
+        self.assertEqual(Project.of_texts(texts=["x"], variables_text=show_variables(VARIABLES)), project)
+        self.assertEqual(raised(Project([]).undo), (NothingToUndo, 0))
 
     def test_errors_by_name(self):
         wrong = [("x", "int", 1, 0)]
@@ -293,6 +342,16 @@ class Results(unittest.TestCase):
         self.assertIsNot(first[2], second[2])
         first[2].clear()
         self.assertEqual(first_unclean(*arguments), second)
+
+    def test_lists(self):
+        project = Project(VARIABLES)
+        project.add(X, ("neg", X))
+        for call in (lambda: cheapest_types(LP32, VARIABLES, X), lambda: project.expressions, project.counter_models,
+                     lambda: read_variables("x int 0 1")):
+            first = call()
+            before = list(first)
+            first.clear()
+            self.assertEqual(call(), before)
 
     def test_values_are_not_those_of_the_caller(self):
         values = {"x": 1, "y": 2}
